@@ -1,0 +1,1 @@
+"""Numbers in several cells, read while they are written."""

@@ -1,0 +1,22 @@
+"""Questions about values of any kind, asked before the values are used."""
+
+KINDS = ("strict", "weak", "free")
+LETTERS = "abcdefghijklmnopqrstuvwxyz"
+LONGEST_NAME = 12
+
+
+def is_whole(thing):
+    """Tell whether it is a whole number: True and False are none."""
+    return isinstance(thing, int) and not isinstance(thing, bool)
+
+
+def is_sequence(thing):
+    """Tell whether it is a tuple or a list."""
+    return isinstance(thing, (tuple, list))
+
+
+def is_name(thing):
+    """Tell whether it is a name: 1 to 12 letters a to z."""
+    if not isinstance(thing, str) or not 1 <= len(thing) <= LONGEST_NAME:
+        return False
+    return all([letter in LETTERS for letter in thing])
