@@ -10,6 +10,11 @@ def is_whole(thing):
     return isinstance(thing, int) and not isinstance(thing, bool)
 
 
+def is_numbered(thing, many):
+    """Tell whether it is the number of one of so many things, numbered from 0."""
+    return is_whole(thing) and 0 <= thing < many
+
+
 def is_sequence(thing):
     """Tell whether it is a tuple or a list."""
     return isinstance(thing, (tuple, list))

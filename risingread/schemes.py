@@ -63,12 +63,12 @@ def _check_numbers(numbers):
         raise NoScheme("numbers", None)
     names = []
     for at, number in enumerate(numbers):
-        if at >= Scheme.NUMBERS or not _is_number(number) or number[0] in names:
+        if at >= Scheme.NUMBERS or not is_number(number) or number[0] in names:
             raise NoScheme("numbers", at)
         names.append(number[0])
 
 
-def _is_number(thing):
+def is_number(thing):
     """Tell whether it is a tuple of a name, places and a kind."""
     if not isinstance(thing, tuple) or len(thing) != 3:
         return False

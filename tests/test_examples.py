@@ -4,8 +4,16 @@ import unittest
 
 from risingread import errors
 from risingread.bases import first_fall, turned_versions
+from risingread.boards import Board
+from risingread.derived import shown
+from risingread.forced import Forced
 from risingread.numerals import Numeral, carry, numerals_from
+from risingread.patterns import how_many, pattern_of, patterns
+from risingread.plans import Plan
+from risingread.readers import Reader
+from risingread.runs import play
 from risingread.schemes import Scheme
+from risingread.weavings import Weaving, weaving_of, weavings_of
 from tests.helper import Case
 
 NUMERALS = """
@@ -31,14 +39,85 @@ raises NoNumeral(2)
 [(0, 9), (1, 0)]
 """
 
-SCHEMES = """
+PLANS = """
+>>> scheme, plan = Plan.layout("n", 2, 1)
+>>> (scheme.cells, plan.looks, plan.tests)
+((('n', 0), ('n', 1), ('n', 0)), (2, 1, 0), ((0, 2),))
+>>> plan.is_promise(("stood", ("n", (0, 1))))
+True
+>>> plan.mirror().looks
+(2, 1, 0)
+>>> scheme, plan = Plan.layout("n", 3, 0)
+>>> ([place for name, place in scheme.cells], plan.looks, plan.tests)
+([2, 1, 0, 1, 2], (2, 1, 0, 4, 3, 2), ((0, 5), (1, 4), (2, 3)))
 >>> Scheme([("n", 2, "strict")], [("n", 0)])
 raises NoScheme("cells", None)
 """
 
+# The scheme is the last one of the plans' examples.
+BOARDS = """
+>>> board = Board(scheme, {"n": (10, 10, 10)}, {"n": (0, 0, 9)})
+>>> board.begin({"n": (0, 1, 0)})
+>>> (board.step(), board.content, board.coming, board.version)
+(0, (0, 0, 0, 0, 9), 1, 1)
+>>> board.finish()
+4
+>>> row = board.row("n", [2, 1, 0])
+>>> row += 90
+>>> (board.content, board.version)
+((0, 0, 1, 0, 0), 2)
+>>> board.begin({"n": (0, 9, 9)})
+raises Fallen("n", 0)
+"""
+
+READERS = """
+>>> scheme, plan = Plan.layout("n", 2, 1)
+>>> board = Board(scheme, {"n": (10, 10)}, {"n": (0, 9)})
+>>> reader = Reader(plan)
+>>> [reader(board), board.begin({"n": (1, 0)}), board.step(), reader(board), reader(board)]
+[0, None, 0, 9, 1]
+>>> (reader.so_far, reader.sights, reader.passed)
+((0, 9, 1), (0, 0, 1), False)
+>>> reader(board)
+raises Spent
+>>> [board.finish(), reader.restart(), reader(board), reader(board), reader.left]
+[2, None, 1, 0, 1]
+>>> reader.answer(("n", (0, 1)))
+raises Unheard(1)
+>>> [reader(board), reader.passed, reader.answer(("n", (0, 1)))]
+[1, True, (1, 0)]
+>>> plain = Plan(Scheme([("n", 2, "strict")], [("n", 1), ("n", 0)]), [1, 0], [])
+>>> run = (({"n": (0, 9)}, {"n": (1, 0)}), ("look", "write", "look"))
+>>> told = play(plain, run)
+>>> (told.heard, told.seen, told.before, told.after, told.passes)
+((0, 0), (0, 1), 0, 1, True)
+>>> R = ("n", (0, 1))
+>>> [told.tells(("above", R)), told.tells(("below", R)), told.breaks(("below", R))]
+[True, False, True]
+>>> play(plain, (run[0], ("look", "write", "write", "write", "look")))
+raises BadRun("events", 3)
+"""
+
+WEAVINGS = """
+>>> scheme = Scheme([("n", 2, "strict")], [("n", 0), ("n", 1)])
+>>> plan = Plan(scheme, [0, 1, 0], [])
+>>> [list(patterns(plan)), how_many(plan)]
+[[(0, 0, 0), (0, 0, 1), (0, 1, 1), (1, 0, 1), (0, 1, 2), (1, 0, 2)], [1, 3, 2]]
+>>> [pattern_of(plan, (5, 4, 9)), weaving_of(plan, (1, 0, 2))]
+[(1, 0, 2), ('write', 'look', 'look', 'write', 'write', 'look')]
+>>> pattern_of(plan, (5, 3, 9))
+raises NotSeen(0, 1)
+>>> [weaving.moments for weaving in weavings_of(plan, (1, 0, 2))]
+[(1, 1, 3), (1, 1, 4)]
+>>> (2 + Weaving(plan, 1, 1, 3)).ages
+(3, 2, 4)
+"""
+
 KNOWN = {
-    "Numeral": Numeral, "Scheme": Scheme, "carry": carry, "first_fall": first_fall,
-    "numerals_from": numerals_from, "turned_versions": turned_versions,
+    "Board": Board, "Numeral": Numeral, "Plan": Plan, "Reader": Reader, "Scheme": Scheme, "Weaving": Weaving,
+    "carry": carry, "first_fall": first_fall, "how_many": how_many, "numerals_from": numerals_from,
+    "pattern_of": pattern_of, "patterns": patterns, "play": play, "turned_versions": turned_versions,
+    "weaving_of": weaving_of, "weavings_of": weavings_of,
 }
 
 
@@ -47,8 +126,36 @@ class TestExamples(Case):
     def test_numerals(self):
         self.assert_examples(NUMERALS, 11)
 
-    def test_schemes(self):
-        self.assert_examples(SCHEMES, 1)
+    def test_plans(self):
+        self.assert_examples(PLANS, 7)
+
+    def test_boards(self):
+        self.assert_examples(PLANS + BOARDS, 15)
+
+    def test_readers(self):
+        self.assert_examples(READERS, 16)
+
+    def test_weavings(self):
+        self.assert_examples(WEAVINGS, 7)
+
+    def test_forced_digits(self):
+        scheme = Scheme([("n", 2, "strict")], [("n", 0), ("n", 1), ("n", 1), ("n", 0)])
+        plan = Plan(scheme, [3, 2, 1, 0], [(0, 3), (1, 2)])
+        for pattern in patterns(plan):
+            self.assert_same(list(pattern), sorted(pattern))
+        self.assert_same(how_many(plan), [1, 3, 3, 1])
+        pattern = (0, 1, 2, 3)
+        self.assertIn(pattern, list(patterns(plan)))
+        forced = Forced(plan, pattern, "n")
+        self.assert_same((forced.classes(0), forced.blocks(1)), (((0, 1, 2, 3),), ((0, 3),)))
+        self.assertIs(forced.same(1, 1, 2), True)
+        self.assert_same((forced.clash, bool(forced)), (1, False))
+        steps = (("rise", 0, 2, 3), ("tie", 0, 3, 0), ("chain", 0, 2, 3, 0), ("rise", 0, 0, 1), ("chain", 0, 2, 0, 1))
+        self.assert_same(shown(plan, pattern, "n", steps)[-1], (0, 2, 1))
+        self.assert_same(shown(plan, pattern, "n", forced.steps(0, 2, 1))[-1], (0, 2, 1))
+        forced = Forced(plan, (0, 0, 0, 1), "n")
+        self.assert_same((forced.same(0, 0, 1), forced.same(1, 0, 1)), (True, False))
+        self.assert_same(forced.freest(), ((0, 0), (0, 1)))
 
     def assert_examples(self, text, many):
         """Assert that each call tells what is written below it, and that there are so many lines of calls."""
@@ -65,6 +172,8 @@ class TestExamples(Case):
             exec(part[0], names)
         elif part[1].startswith("raises "):
             wanted = eval(part[1][len("raises "):], dict(vars(errors)))
+            # An error without fields is told by its class alone.
+            wanted = wanted("") if isinstance(wanted, type) else wanted
             fields = list(vars(wanted).values())
             self.assert_raises(wanted.__class__, fields, eval, part[0], names)
         else:
