@@ -1,6 +1,6 @@
 """Patterns: which look sees an older version than which other one."""
 
-from risingread.checks import is_whole
+from risingread.checks import is_numbered
 from risingread.errors import NotPattern, NotSeen, Unlike
 
 
@@ -8,7 +8,7 @@ def is_pattern(plan, thing):
     """Tell whether it is a tuple of levels, one for each look, that could be seen."""
     if not isinstance(thing, tuple) or len(thing) != len(plan):
         return False
-    if not all([is_whole(level) and level >= 0 for level in thing]):
+    if not all([is_numbered(level, len(plan)) for level in thing]):
         return False
     # No level is left out if below each one but 0 there is the next lower one.
     if not all([level == 0 or level - 1 in thing for level in thing]):
@@ -78,12 +78,8 @@ def _many_missing(levels, top):
 
 def how_many(plan):
     """Return the list of the numbers of patterns with the greatest level 0, 1, and so on."""
-    many = [0] * len(plan)
-    for pattern in patterns(plan):
-        many[top_of(pattern)] = many[top_of(pattern)] + 1
-    while many[-1] == 0:
-        many.pop()
-    return many
+    # The last one is never 0: in each plan the levels can rise with every look.
+    return [len(_patterns_up_to(plan.looks, top)) for top in range(len(plan))]
 
 
 def pattern_of(plan, seen):

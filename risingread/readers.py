@@ -108,7 +108,6 @@ class Attempt:
 
     def __exit__(self, kind, value, trace):
         reader = self.reader
-        if kind is None:
-            reader.hearing = reader.hearing.outcome
+        reader.hearing = reader.hearing.outcome
         if kind is not None:
             reader.hearing = self.earlier
