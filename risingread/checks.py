@@ -3,6 +3,7 @@
 KINDS = ("strict", "weak", "free")
 LETTERS = "abcdefghijklmnopqrstuvwxyz"
 LONGEST_NAME = 12
+FIGURES = "0123456789"
 
 
 def is_whole(thing):
@@ -25,3 +26,10 @@ def is_name(thing):
     if not isinstance(thing, str) or not 1 <= len(thing) <= LONGEST_NAME:
         return False
     return all([letter in LETTERS for letter in thing])
+
+
+def is_decimal(text, most):
+    """Tell whether the text has decimal figures without leading zeros, at most so many."""
+    if not 1 <= len(text) <= most or (text[0] == "0" and len(text) > 1):
+        return False
+    return all([letter in FIGURES for letter in text])

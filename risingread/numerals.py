@@ -1,10 +1,9 @@
 """Numerals: digits with a base for each place."""
 
 from risingread.bases import count_of, is_bases, weights
-from risingread.checks import is_sequence, is_whole
+from risingread.checks import FIGURES, is_sequence, is_whole
 from risingread.errors import NoDivisor, NoNumeral, NoPlace, NoText, Overflow, Unlike
 
-FIGURES = "0123456789"
 MOST_FIGURES = 3
 
 

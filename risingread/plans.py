@@ -126,8 +126,7 @@ class Plan(Order, Table):
 
     def turned(self, promise):
         """Return the promise of the mirror that holds for it exactly if this one holds for the plan."""
-        if not self.is_promise(promise):
-            raise NoPromise(promise)
+        check_promise(self, promise)
         kind, *parts = promise
         if kind == "together":
             return kind, tuple([self._mirrored(look) for look in parts[0][::-1]])
@@ -142,6 +141,12 @@ class Plan(Order, Table):
 
     def __len__(self):
         return len(self.looks)
+
+
+def check_promise(plan, thing):
+    """Raise NoPromise for what is no promise of the plan."""
+    if not plan.is_promise(thing):
+        raise NoPromise(thing)
 
 
 def _check_looks(looks, scheme):

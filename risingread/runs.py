@@ -1,8 +1,8 @@
 """Runs: versions and events told beforehand, and what the attempts in them have heard."""
 
 from risingread.checks import is_sequence
-from risingread.errors import BadRun, NoPromise, NoReading
-from risingread.plans import come_out, digits_in
+from risingread.errors import BadRun, NoReading
+from risingread.plans import check_promise, come_out, digits_in
 from risingread.versions import first_fallen, is_version, version_in
 
 
@@ -26,8 +26,7 @@ class Played:
 
     def tells(self, promise):
         """Tell whether the promise is true in the attempt, whether it passes or not."""
-        if not self.plan.is_promise(promise):
-            raise NoPromise(promise)
+        check_promise(self.plan, promise)
         if promise[0] == "together":
             return len({self.seen[look] for look in promise[1]}) == 1
         if promise[0] == "order":

@@ -12,7 +12,7 @@ class Scheme:
     NUMBERS = 3
 
     def __init__(self, numbers, cells):
-        _check_numbers(numbers)
+        check_numbers(numbers)
         _check_cells(cells, numbers)
         self.numbers = tuple(numbers)
         self.cells = tuple(cells)
@@ -57,7 +57,7 @@ class Scheme:
         return _is_one_of(x, self.cells)
 
 
-def _check_numbers(numbers):
+def check_numbers(numbers):
     """Raise NoScheme with the first item that is no number, or has a name again."""
     if not isinstance(numbers, list) or not numbers:
         raise NoScheme("numbers", None)

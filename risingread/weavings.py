@@ -115,10 +115,10 @@ def _moments_of(events, many):
     return moments
 
 
-def _first_moments(plan, pattern):
-    """Return the list of the first moments at which the cells of the looks hold the levels."""
+def _first_moments(plan, seen):
+    """Return the list of the first moments at which the cells of the looks hold these versions."""
     many = len(plan.scheme)
-    return [max(0, (level - 1) * many + cell + 1) for cell, level in zip(plan.looks, pattern)]
+    return [max(0, (version - 1) * many + cell + 1) for cell, version in zip(plan.looks, seen)]
 
 
 def _last_moments(plan, pattern):
@@ -127,10 +127,10 @@ def _last_moments(plan, pattern):
     return [level * many + cell for cell, level in zip(plan.looks, pattern)]
 
 
-def _earliest(plan, pattern):
-    """Return the list of the least moments that do not fall."""
+def _earliest(plan, seen):
+    """Return the list of the least moments that do not fall and at which the looks see these versions."""
     moments = []
-    for first in _first_moments(plan, pattern):
+    for first in _first_moments(plan, seen):
         if moments and moments[-1] > first:
             first = moments[-1]
         moments.append(first)
@@ -150,6 +150,12 @@ def _latest(plan, pattern):
 def weaving_of(plan, pattern):
     """Return the events of the earliest weaving of the pattern."""
     return Weaving.earliest(plan, pattern).events
+
+
+def events_of(plan, seen):
+    """Return the events of the earliest weaving in which the looks see these versions."""
+    moments = _earliest(plan, seen)
+    return Weaving(plan, *moments).events
 
 
 def weavings_of(plan, pattern):

@@ -9,7 +9,7 @@ from tests.test_language import FOLDER, bound_in, called, files, read
 VIEWS = {"items", "keys", "values"}
 MADE = {"zip", "enumerate", "reversed", "range"}
 ITERATING = {"list", "tuple", "dict", "sorted", "sum", "any", "all", "enumerate", "zip", "bytes", "min", "max"}
-PLAIN = {"len", "int", "ord"}
+PLAIN = {"len", "int", "ord", "str"}
 
 
 def functions_of(tree):
@@ -25,7 +25,7 @@ def name_of(node):
 
 
 def is_plain_number(node):
-    """Whether it is plainly a number: a literal, a length, or sums of these."""
+    """Whether it is plainly a number or a string: a literal, a length, a text, or sums of these."""
     if isinstance(node, ast.BinOp):
         return is_plain_number(node.left) and is_plain_number(node.right)
     return isinstance(node, ast.Constant) or (isinstance(node.func, ast.Name) and node.func.id in PLAIN
@@ -47,8 +47,22 @@ class TestLanguageUse(unittest.TestCase):
                     yield f"{os.path.relpath(path, FOLDER)}:{getattr(node, 'lineno', 1)}", node
 
     def test_l5_and_l28_what_is_not_used_beside_operators(self):
-        for place, node in self.each(ast.AugAssign, ast.GeneratorExp, ast.Try, ast.Match, ast.Lambda, ast.NamedExpr):
+        for place, node in self.each(ast.AugAssign, ast.GeneratorExp, ast.Match, ast.Lambda, ast.NamedExpr):
             self.fail(place)
+
+    def test_l19_what_is_caught(self):
+        own = {name for path, tree in self.trees.items() if called(path) == "errors"
+               for node in tree.body for name in bound_in(node)}
+        for place, node in self.each(ast.Try):
+            self.assertEqual((node.orelse, node.finalbody), ([], []), place)
+            self.assertEqual(len(node.body), 1, place)
+            for handler in node.handlers:
+                self.assertIn(getattr(handler.type, "id", None), own, place)
+                self.assertIsNone(handler.name, place)
+        for place, node in self.each(ast.Raise):
+            self.assertIsInstance(node.exc, ast.Call, place)
+            self.assertIn(name_of(node.exc), own | {"TypeError"}, place)
+            self.assertIsNone(node.cause, place)
 
     def test_l18_methods_attributes_and_properties(self):
         methods, properties, stored, read_off = set(), set(), set(), {}
@@ -143,7 +157,8 @@ class TestLanguageUse(unittest.TestCase):
     def test_l7_any_all_and_sum_take_lists(self):
         for place, node in self.each(ast.Call):
             if isinstance(node.func, ast.Name) and node.func.id in ("any", "all", "sum"):
-                self.assertIsInstance(node.args[0], ast.ListComp, place)
+                is_counted = name_of(node.args[0]) == "how_many"
+                self.assertTrue(isinstance(node.args[0], ast.ListComp) or is_counted, place)
 
     def test_l24_sets(self):
         for place, node in self.each(ast.Set, ast.SetComp, ast.Call):
