@@ -308,6 +308,13 @@ class TestShowsFewest(Case):
             self.assert_tells(False, looks, table, [thing] * len(broken))
 
     def test_of_another_number_aim_or_scheme(self):
+        # With too few looks nothing is to be shown but for the number and the aim.
+        empty = Fewest(None, (), ())
+        self.assertIs(shows_fewest(LAYOUT, "n", "stood", 1, empty), True)
+        for name, aim, most in [("m", "stood", 1), (["n"], "stood", 1), ("n", "order", 1), ("n", None, 1), ("n", ["stood"], 1),
+                                ("n", "stood", None), ("n", "stood", True), ("n", "stood", "1")]:
+            self.assertIs(shows_fewest(LAYOUT, name, aim, most, empty), False)
+        self.assertIs(shows_fewest(MARKED, "n", "below", 1, empty), False)
         self.assertIs(shows_fewest(LAYOUT, "n", "stood", 3, self.found), True)
         self.assertIs(shows_fewest(LAYOUT, "n", "between", 3, self.found), False)
         self.assertIs(shows_fewest(LAYOUT, "n", "below", 3, self.found), False)

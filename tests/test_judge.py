@@ -238,7 +238,9 @@ class TestMadeByHand(Case):
         promise = ["above", ["n"]]
         holds = Holds(LAMPORT, promise, rows)
         run = ([{"n": (0, 1)}], ["look", ["look"]])
-        breaking = Breaks(LAMPORT, promise, [0, [1]], run)
+        pattern = [0, [1]]
+        breaking = Breaks(LAMPORT, promise, pattern, run)
+        pattern[1].append(2)
         rows[0][1][1]["a"].append(2)
         rows.append(3)
         promise[1].append(0)

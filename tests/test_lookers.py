@@ -124,6 +124,18 @@ class TestRows(LookerCase):
             for sides in (parts, list(parts)):
                 self.assert_shows(shows_row, wanted, plan, promise, pattern, ("sides", sides))
 
+    def test_both_of_the_first_two_forms(self):
+        for pattern in patterns(MIDDLE):
+            halves = [why(MIDDLE, pattern, (word, M)) for word in ("below", "above")]
+            self.assert_shows(shows_row, True, MIDDLE, ("between", M), pattern, ("both", halves[0], halves[1]))
+            if halves[0][0] == "tests":
+                sides = [("sides", (("tests", reason[2], reason[3]),)) for reason in halves]
+                for one, two in [(sides[0], halves[1]), (halves[0], sides[1]), (sides[0], sides[1])]:
+                    self.assert_shows(shows_row, True, MIDDLE, ("between", M), pattern, ("both", one, two))
+                for one, two in [(halves[0], None), (None, halves[1]), (("one",), halves[1]),
+                                 (("both", halves[0], halves[1]), halves[1]), (halves[0], ("stood", 0, ()))]:
+                    self.assert_shows(shows_row, False, MIDDLE, ("between", M), pattern, ("both", one, two))
+
     def test_ties_count_in_the_lower_places_alone(self):
         plan = plan_of(2, "weak", [0, 1], [0, 1, 1])
         promise = ("order", ("n", (0, 1)), ("n", (0, 2)))

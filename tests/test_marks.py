@@ -209,6 +209,12 @@ class TestLimits(Case):
             self.assert_same(marks.limit(("stood", ("d", (1,)))), None)
             self.assertIsNone(marks.example(("stood", ("d", (1,)))))
 
+    def test_a_whole_round_between_two_looks(self):
+        plan = Plan(PLAN.scheme, [0, 0], [(0, 1)])
+        for modulus in range(2, 10):
+            self.assert_same(Marks(plan, "m", modulus).limit(("together", (0, 1))), modulus - 1)
+            self.assert_example(Marks(plan, "m", modulus), ("together", (0, 1)))
+
     def test_a_mark_that_is_not_looked_at(self):
         plan = Plan(PLAN.scheme, [1, 2], [])
         self.assert_same(Marks(plan, "m", 9).limit(("together", (0, 1))), 0)
@@ -264,6 +270,8 @@ class TestLimits(Case):
         played = play(marks.plan, run)
         self.assert_same(played.after - played.before, limit + 1)
         self.assertIs(played.breaks(promise), True)
+        # No version is told that is not asked for.
+        self.assertEqual((played.before, len(run[0])), (0, played.after + 1))
         self.assertIs(shows_breaks(marks.plan, promise, run), True)
         self.assertEqual((run.__class__, run[0].__class__, run[1].__class__), (tuple, tuple, tuple))
         self.assertEqual(marks(run[0]), run[0])

@@ -220,6 +220,13 @@ class TestRightOrders(Case):
         self.assert_same(mend(plan, ("above", R)), (2, (0, 2, 3, 1)))
         self.assert_mended(plan, ("above", R), right_writings(plan, ("above", R)))
 
+    def test_the_first_right_order_is_not_the_nearest_one(self):
+        plan = plan_of(2, "weak", [0, 1, 0, 1], [0, 3, 1, 0], [(0, 3), (1, 2)])
+        promise = ("stood", ("n", (0, 1)))
+        self.assert_same(right_writings(plan, promise)[:3], [(2, 3, 0, 1), (3, 0, 1, 2), (3, 0, 2, 1)])
+        self.assert_same(mend(plan, promise), (3, (3, 0, 1, 2)))
+        self.assert_mended(plan, promise, right_writings(plan, promise))
+
     def test_a_plan_that_is_right_already(self):
         for plan in small_plans()[:13]:
             for promise in promises_of(plan):

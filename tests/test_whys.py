@@ -49,7 +49,7 @@ class TestWhys(Case):
         self.assertEqual(forms, sided | barred | {("between", "both"), ("stood", "stood"), ("together", "one")})
 
     def test_a_why_is_made_of_tuples_alone(self):
-        for plan in (MIDDLE, LAMPORT):
+        for plan in (MIDDLE, LAMPORT, plan_of(2, "strict", [0, 1], [0, 1, 1, 0], [(1, 2)])):
             for promise in promises_of(plan):
                 for pattern in patterns(plan):
                     self.assert_tuples(why(plan, pattern, promise))
@@ -60,6 +60,14 @@ class TestWhys(Case):
         if isinstance(thing, tuple):
             for item in thing:
                 self.assert_tuples(item)
+
+    def test_no_step_is_told_twice(self):
+        for plan in some_plans():
+            for promise in promises_of(plan)[::4]:
+                for pattern in patterns(plan):
+                    reason = why(plan, pattern, promise)
+                    if reason is not None and reason[0] in ("tests", "stood"):
+                        self.assertEqual(len(set(reason[-1])), len(reason[-1]))
 
     def test_walks(self):
         self.assert_same(why(LAMPORT, (0, 1), ("above", R)),
